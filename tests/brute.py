@@ -1,0 +1,82 @@
+"""Plain answers from the definitions, and small families, for the tests to compare with."""
+
+import random
+from fractions import Fraction
+from itertools import combinations
+
+from shortbynarrow.families import Family
+
+
+def subsets(things):
+    """Return all sets of some of the things, as tuples."""
+    things = tuple(things)
+    return [s for k in range(len(things) + 1) for s in combinations(things, k)]
+
+
+def least_sets(sets):
+    """Return the sets that hold no other one, ascending."""
+    pool = {frozenset(s) for s in sets}
+    return tuple(sorted(tuple(sorted(s)) for s in pool if not any(t < s for t in pool)))
+
+
+def blocker_of(lots, things):
+    """Return the least sets of 0 .. things - 1 that meet every lot."""
+    return least_sets(s for s in subsets(range(things)) if all(set(s) & set(a) for a in lots))
+
+
+def random_family(rng, things, most_lots=8):
+    """Return a family made of a few sets that are not empty."""
+    many = rng.randint(1, most_lots)
+    lots = [rng.sample(range(things), rng.randint(1, things)) for _ in range(many)]
+    return Family(things, lots)
+
+
+def some_families(seed, count, most_things=5, most_lots=8):
+    """Return random families of 1 to most_things things."""
+    rng = random.Random(seed)
+    return [random_family(rng, rng.randint(1, most_things), most_lots) for _ in range(count)]
+
+
+def all_families(things):
+    """Return every family of this many things."""
+    found = []
+    sets = [s for s in subsets(range(things)) if s]
+
+    def grow(chosen, place):
+        if place == len(sets):
+            if chosen:
+                found.append(Family(things, chosen))
+            return
+        grow(chosen, place + 1)
+        fresh = set(sets[place])
+        if not any(set(s) <= fresh or fresh <= set(s) for s in chosen):
+            grow(chosen + [sets[place]], place + 1)
+
+    grow([], 0)
+    return found
+
+
+def fraction(value):
+    """Return the Fraction of an amount."""
+    return Fraction(value[0], value[1])
+
+
+def fractions(row):
+    """Return the entries of a Row as Fractions."""
+    return [fraction(entry) for entry in row]
+
+
+def amount_of(value):
+    """Return the amount of a Fraction."""
+    return (value.numerator, value.denominator)
+
+
+def is_amount(value):
+    """Tell whether the value is an amount as it is returned: a tuple in least terms."""
+    return (type(value) is tuple and len(value) == 2 and all(type(part) is int for part in value)
+            and value[0] >= 0 and value[1] >= 1
+            and amount_of(Fraction(value[0], value[1])) == value)
+
+
+NOT_NUMBERS = [None, True, False, "1", 1.0, [1], (1,), {}, b"1"]
+NOT_LISTS = [None, 5, True, "ab", {0: 1}, {0}, 1.5]
