@@ -2,7 +2,7 @@
 
 from shortbynarrow.checks import is_whole_number
 from shortbynarrow.errors import BadLots, BadThing
-from shortbynarrow.lots import fault_of_set
+from shortbynarrow.lots import blocker_masks, fault_of_set, least_masks, mask_of, things_in
 
 
 def blocker(family):
@@ -26,10 +26,10 @@ def private_lot(family, lot, thing):
         raise BadLots(-1)
     if not is_whole_number(thing) or thing not in lot:
         raise BadThing(thing)
-    others = [other for other in lot if other != thing]
-    for block in (~family).lots:
-        if thing in block and not any([other in block for other in others]):
-            return block
+    inside = mask_of(lot)
+    # the lots with the thing are met by it; the others are to be met outside the lot
+    rest = least_masks([mask & ~inside for mask in family.masks if not mask >> thing & 1])
+    return min([things_in(mask | (1 << thing)) for mask in blocker_masks(rest)])
 
 
 def _outsides(family):

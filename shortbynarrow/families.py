@@ -123,10 +123,7 @@ class Family:
         starts = starts_of(families)
         if starts[-1] > MOST_THINGS:
             raise BadNumber("things")
-        raised = [
-            [tuple([start + thing for thing in lot]) for lot in family.lots]
-            for family, start in zip(families, starts)
-        ]
+        raised = [_raised_lots(family, start) for family, start in zip(families, starts)]
         unions = []
         for lot in self.lots:
             unions.extend(_choices_of_lots([raised[thing] for thing in lot]))
@@ -156,6 +153,11 @@ def starts_of(families):
     for family in families:
         starts.append(starts[-1] + family.things)
     return starts
+
+
+def _raised_lots(family, start):
+    """Return the lots of a family whose things are numbered from the start on."""
+    return [tuple([start + thing for thing in lot]) for lot in family.lots]
 
 
 def _choices_of_lots(columns):

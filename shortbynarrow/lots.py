@@ -48,7 +48,8 @@ def things_in(mask):
 
 def count_in(mask):
     """Return the number of things of a mask."""
-    return f"{mask:b}".count("1")
+    figures = f"{mask:b}"
+    return figures.count("1")
 
 
 def holds_one_of(mask, masks):
@@ -69,17 +70,18 @@ def meets_all(mask, masks):
 
 def least_masks(masks):
     """Return those masks that hold no other one, each once."""
+    different = list({mask: True for mask in masks})
     kept = []
     level = []
     before = 0
-    for size, mask in sorted([(count_in(mask), mask) for mask in list({mask: True for mask in masks})]):
+    for size, large in sorted([(count_in(mask), mask) for mask in different]):
         # sets of one size do not hold each other: only those of lesser sizes are asked
         if size != before:
             kept = kept + level
             level = []
             before = size
-        if not holds_one_of(mask, kept):
-            level.append(mask)
+        if not holds_one_of(large, kept):
+            level.append(large)
     return kept + level
 
 
@@ -111,7 +113,7 @@ def blocker_lots(lots):
     return _lots_by(order, blocker_masks(least_masks(_masks_by(order, lots))))
 
 
-def _most_frequent(masks):
+def most_frequent(masks):
     """Return the mask of a thing that is in the most of the masks, and the number of these."""
     best, most = 0, 0
     union = 0
@@ -137,7 +139,7 @@ def blocker_masks(masks):
     """Return the least masks that meet each one of some masks, none of which holds another one."""
     if 0 in masks:
         return []
-    bit, many = _most_frequent(masks)
+    bit, many = most_frequent(masks)
     if many <= 1:
         return _choices(masks)
     without = [mask for mask in masks if not mask & bit]

@@ -46,7 +46,8 @@ def _put_into_votes(need, families):
         raise BadNumber("things")
     everything = list(range(len(families)))
     lots = [[thing] for thing in everything] if need == 1 else [everything]
-    return Family(len(families), lots)(families)
+    outer = Family(len(families), lots)
+    return outer(families)
 
 
 def beside(*families):

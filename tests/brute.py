@@ -5,6 +5,7 @@ from fractions import Fraction
 from itertools import combinations
 
 from shortbynarrow.families import Family
+from shortbynarrow.rows import Row
 
 
 def subsets(things):
@@ -80,3 +81,43 @@ def is_amount(value):
 
 NOT_NUMBERS = [None, True, False, "1", 1.0, [1], (1,), {}, b"1"]
 NOT_LISTS = [None, 5, True, "ab", {0: 1}, {0}, 1.5]
+
+
+def random_row_of(rng, size, most=4, bottom=3):
+    """Return a random Row; some entries are 0."""
+    return Row([rng.choice([0, rng.randint(0, most)]) for _ in range(size)], rng.randint(1, bottom))
+
+
+def short_of(lots, entries):
+    """Return the least sum of Fractions on one of the lots."""
+    return min(sum((entries[e] for e in lot), Fraction(0)) for lot in lots)
+
+
+def solution_of(rows, values, size):
+    """Return the only solution of the equations as Fractions, None if there is not just one."""
+    table = [[Fraction(v) for v in row] + [Fraction(value)] for row, value in zip(rows, values)]
+    for column in range(size):
+        main = next((k for k in range(column, len(table)) if table[k][column]), None)
+        if main is None:
+            return None
+        table[column], table[main] = table[main], table[column]
+        table[column] = [v / table[column][column] for v in table[column]]
+        for k, row in enumerate(table):
+            if k != column and row[column]:
+                table[k] = [a - row[column] * b for a, b in zip(row, table[column])]
+    if any(row[size] for row in table[size:]):
+        return None
+    return [row[size] for row in table[:size]]
+
+
+def corners_by_definition(family):
+    """Return all corners as tuples of Fractions, ascending: one for each set of equations that tells one."""
+    size = family.things
+    equations = [([1 if e in lot else 0 for e in range(size)], 1) for lot in family.lots]
+    equations += [([1 if e == f else 0 for e in range(size)], 0) for f in range(size)]
+    found = set()
+    for chosen in combinations(equations, size):
+        point = solution_of([row for row, _ in chosen], [value for _, value in chosen], size)
+        if point is not None and min(point) >= 0 and short_of(family.lots, point) >= 1:
+            found.add(tuple(point))
+    return sorted(found)

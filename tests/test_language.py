@@ -174,8 +174,11 @@ class LanguageTest(unittest.TestCase):
         for name, tree in TREES.items():
             taken = {a.name for n in tree.body if isinstance(n, ast.ImportFrom) for a in n.names}
             taken |= {n.name for n in tree.body if isinstance(n, ast.ClassDef)}
+            for node in [n for n in ast.walk(tree) if isinstance(n, ast.ClassDef)]:
+                self.assertRegex(node.name, "^[A-Z]")
             for function in functions_of(tree):
                 bound = names_bound(function)
+                self.assertFalse({function.name} & set(dir(builtins)), (name, function.name))
                 self.assertFalse(bound & taken, (name, function.name))
                 self.assertFalse(bound & set(dir(builtins)), (name, function.name))
                 self.assertFalse((bound | {function.name}) & BARRED, (name, function.name))
@@ -184,6 +187,21 @@ class LanguageTest(unittest.TestCase):
                     self.assertIn(node.id, BUILTINS, (name, node.lineno))
                 if isinstance(node, ast.Call) and isinstance(node.func, ast.Attribute):
                     self.assertIn(node.func.attr, METHODS | own, (name, node.lineno))
+
+    def test_names_in_comprehensions(self):
+        kinds = (ast.ListComp, ast.DictComp)
+        for name, tree in TREES.items():
+            for function in functions_of(tree):
+                outer = [n for n in ast.walk(function) if isinstance(n, kinds)]
+                inner = {n for one in outer for n in ast.walk(one) if isinstance(n, kinds) and n is not one}
+                hidden = {n for one in outer for n in ast.walk(one)}
+                assigned = {n.id for n in ast.walk(function) if isinstance(n, ast.Name)
+                            and isinstance(n.ctx, ast.Store) and n not in hidden}
+                assigned |= {arg.arg for arg in function.args.args}
+                for one in inner:
+                    for part in one.generators:
+                        own = {n.id for n in ast.walk(part.target) if isinstance(n, ast.Name)}
+                        self.assertFalse(own & assigned, (name, function.name))
 
     def test_iterated_at_once(self):
         for name, tree in TREES.items():

@@ -1,0 +1,95 @@
+"""The names, arguments and places of the interface, as DOC.md lists them."""
+
+import importlib
+import inspect
+import unittest
+
+FUNCTIONS = {
+    "amounts": ["amount(value)", "plus(one, other)", "times(one, other)", "over(one, other)",
+                "apart(one, other)", "at_most(one, other)", "least(amounts)", "greatest(amounts)"],
+    "lots": ["set_of(things, size)", "least_lots(lots)", "blocker_lots(lots)"],
+    "rows": ["row_of(value, size)", "whole_row(value, size)"],
+    "texts": ["family_text(family)", "family_from(text)"],
+    "blockers": ["blocker(family)", "side_of(family, things)", "private_lot(family, lot, thing)",
+                 "quiet_sets(family)"],
+    "parts": ["part(family, left, kept)", "left_out(family, things)", "held(family, things)",
+              "is_lost(family, left, kept)", "parts_of(family)", "single_parts(family)"],
+    "putting": ["put_in(family, families)", "place_of(families, e, f)", "merged(family, names, size)",
+                "beside(*families)", "both(*families)", "renamed(family, names)"],
+    "shapes": ["votes(k, n)", "ring(n)", "fan(m)", "four_points()", "seven_lines()", "block(l, w)"],
+    "lengths": ["short(family, lengths)", "narrow(family, widths)", "shortest(family, lengths)",
+                "narrowest(family, widths)", "critical(family, lengths, thing)"],
+    "filling": ["fill(columns, gains, room)"],
+    "packings": ["packing(family, widths)", "cap(family, widths)", "cheapest_cover(family, widths)",
+                 "whole_packing(family, widths)", "whole(family, widths)", "total_of(weighted)",
+                 "row_of_packing(weighted, size)"],
+    "products": ["fourfold(family, thing, lengths, widths)",
+                 "keeps(family, factor, lengths, widths, *, tolls=None)",
+                 "keeps_at(family, thing, factor, lengths, widths, *, tolls=None)",
+                 "worst_entries(family, thing, factor, lengths, widths, *, tolls=None)"],
+    "alone": ["alone(family, lots)", "two_mixes(family, lots)"],
+    "covers": ["is_cover(family, row)", "tight_lots(family, row)", "raised(family, row, thing)",
+               "lowered(family, row)", "is_corner(family, row)"],
+    "corners": ["corners_of(family)", "whole_corners(family)", "broken_corners(family)",
+                "cheapest_corner(family, tolls)", "bound_of(number)"],
+    "mixes": ["mix_under(family, row)", "stretch(family, row)", "mix_of_corners(family, row)"],
+}
+GENERATORS = {"quiet_sets", "parts_of"}
+CLASSES = {
+    ("rows", "Row"): {
+        "plain": ["__init__(self, tops, bottom=1)", "at(self, things)", "total(self)", "dot(self, other)",
+                  "scaled(self, value)", "with_entry(self, thing, value)", "covers_row(self, other)",
+                  "support(self)"],
+        "operators": ["__add__", "__mul__", "__rmul__", "__eq__", "__len__", "__getitem__", "__iter__"],
+        "properties": ["is_whole"],
+        "class": ["ones(cls, size)", "of_set(cls, things, size)", "of_amounts(cls, amounts)"],
+        "static": [],
+    },
+    ("families", "Family"): {
+        "plain": ["__init__(self, things, lots)", "__call__(self, families)", "holds(self, things)",
+                  "least_size(self)", "sizes(self)", "lots_at(self, thing)"],
+        "operators": ["__eq__", "__len__", "__contains__", "__iter__", "__or__", "__and__", "__invert__",
+                      "__sub__", "__floordiv__"],
+        "properties": ["useful"],
+        "class": ["single(cls)"],
+        "static": ["least_of(lots)"],
+    },
+}
+
+
+class InterfaceTest(unittest.TestCase):
+    """Everything listed exists where it is listed."""
+
+    def test_functions(self):
+        for module, entries in FUNCTIONS.items():
+            found = importlib.import_module(f"shortbynarrow.{module}")
+            for entry in entries:
+                name, arguments = entry.split("(", 1)
+                one = getattr(found, name)
+                self.assertTrue(inspect.isfunction(one), entry)
+                self.assertEqual(str(inspect.signature(one)), "(" + arguments, entry)
+                self.assertEqual(one.__module__, found.__name__, entry)
+                self.assertEqual(inspect.isgeneratorfunction(one), name in GENERATORS, entry)
+
+    def test_classes(self):
+        for (module, name), kinds in CLASSES.items():
+            found = getattr(importlib.import_module(f"shortbynarrow.{module}"), name)
+            body = vars(found)
+            self.assertEqual(found.__module__, f"shortbynarrow.{module}")
+            for entry in kinds["plain"]:
+                method, arguments = entry.split("(", 1)
+                self.assertEqual(str(inspect.signature(body[method])), "(" + arguments, entry)
+            for method in kinds["operators"]:
+                self.assertTrue(inspect.isfunction(body[method]), method)
+            for method in kinds["properties"]:
+                self.assertIsInstance(body[method], property)
+            for kind, wanted in (("class", classmethod), ("static", staticmethod)):
+                for entry in kinds[kind]:
+                    method, arguments = entry.split("(", 1)
+                    self.assertIsInstance(body[method], wanted)
+                    inner = inspect.signature(body[method].__func__)
+                    self.assertEqual(str(inner), "(" + arguments, entry)
+
+
+if __name__ == "__main__":
+    unittest.main()
