@@ -79,23 +79,15 @@ def _has_one_solution(rows, size):
         main = [row for row in rows if row[column] != 0][:1]
         if not main:
             return False
-        rows = _without_column(rows, main[0], column, bottom)
+        rows = [_without_column(row, main[0], column, bottom) for row in rows]
         bottom = main[0][column]
     return True
 
 
-def _without_column(rows, main, column, bottom):
-    """Return the rows but the main one, less so much of it that the column is 0 in them.
+def _without_column(row, main, column, bottom):
+    """Return the row less so much of the main one that the column is 0 in it; the main one becomes 0.
 
     The divisions leave no rest, as all entries are determinants.
     """
-    pivot = main[column]
-    found = []
-    used = False
-    for row in rows:
-        if not used and row == main:
-            used = True
-        else:
-            entry = row[column]
-            found.append([(one * pivot - entry * two) // bottom for one, two in zip(row, main)])
-    return found
+    pivot, entry = main[column], row[column]
+    return [(one * pivot - entry * two) // bottom for one, two in zip(row, main)]

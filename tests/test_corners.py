@@ -179,6 +179,15 @@ class CornersTest(Case):
             self.assertIs(is_corner(family, found[0].scaled((9, 10))), False)
             self.assertIs(is_corner(family, found[0] + Row.ones(family.things)), False)
 
+    def test_no_covers(self):
+        for family in some_families(116, 40):
+            self.assertIs(is_corner(family, [0] * family.things), False)
+            for row in corners_of(family):
+                for e in row.support():
+                    self.assertIs(is_corner(family, row.with_entry(e, 0)), False)
+        self.assertIs(is_corner(Family(4, [(0, 1), (1, 2), (2, 3)]), [1, 0, 0, 1]), False)
+        self.assertIs(is_corner(ring(3), Row([1, 0, 0])), False)
+
     def test_new_lists(self):
         one = corners_of(ring(3))
         one.clear()

@@ -7,7 +7,7 @@ from fractions import Fraction
 from shortbynarrow.amounts import amount, at_most, least, plus, times
 from shortbynarrow.errors import BadMix, BadNumber, BadRow, OtherSize, TooMany
 from shortbynarrow.families import Family
-from shortbynarrow.filling import fill
+from shortbynarrow.filling import Table, fill
 from shortbynarrow.lengths import narrow, short
 from shortbynarrow.packings import (
     cap, cheapest_cover, packing, row_of_packing, total_of, whole, whole_packing,
@@ -67,6 +67,25 @@ class FillTest(Case):
         self.assertEqual(fill([[2]], [3], [5])[0], (15, 2))
         # many ties at once
         self.check([[1 if e in lot else 0 for e in range(7)] for lot in seven_lines()], [1] * 7, [0] * 7)
+
+    def test_no_circles(self):
+        # The way to the greatest total ends if no amount, with ever tinier bits more of the room from
+        # place to place, comes down to zero: then each exchange makes the total with the bits greater.
+        rng = random.Random(74)
+        for _ in range(150):
+            places = rng.randint(2, 6)
+            columns = [[rng.choice([-1, 0, 0, 1, 2]) for _ in range(places)] + [1]
+                       for _ in range(rng.randint(2, 8))]
+            table = Table(columns, [rng.randint(1, 3) for _ in columns], [0] * places + [1])
+            column = table.best_column()
+            while column is not None:
+                table.exchange(table.first_full(column), column)
+                for number, row in zip(table.shown, table.rows):
+                    bits = [row[table.free.index(slack)] if slack in table.free
+                            else int(slack == number) * table.bottom
+                            for slack in range(table.many, table.many + len(table.rows))]
+                    self.assertGreater([row[-1], *bits], [0] * (places + 2))
+                column = table.best_column()
 
     def test_errors_in_turn(self):
         for wrong in NOT_LISTS + [[], Row([1])]:
@@ -201,6 +220,16 @@ class WholePackingTest(Case):
             other = [rng.randint(0, 1) for _ in range(family.things)]
             together = [one + two for one, two in zip(widths, other)]
             self.assertGreaterEqual(whole(family, together), value + whole(family, other))
+
+    def test_things_set_aside(self):
+        self.check(Family(5, [(0, 1, 2), (1, 3), (2, 4)]), [1] * 5, 2)
+        rng = random.Random(73)
+        for _ in range(80):
+            things = rng.randint(4, 8)
+            lots = [rng.sample(range(things), rng.randint(2, 4)) for _ in range(rng.randint(3, 8))]
+            family = Family(things, lots)
+            widths = [rng.randint(1, 2) for _ in range(things)]
+            self.check(family, widths, self.brute(family.lots, widths))
 
     def test_multiples(self):
         rng = random.Random(68)

@@ -103,6 +103,18 @@ class KeepsAtTest(Case):
             for e in range(family.things):
                 self.check(family, factor, lengths, widths, tolls, e)
 
+    def test_great_toll(self):
+        # of the three conditions of point 25 just the first or the second one fails
+        self.assertIs(keeps_at(ring(3), 0, 1, [1, 1, 1], [1, 3, 0], tolls=Row([10, 1, 1], 2)), False)
+        self.assertIs(keeps_at(ring(3), 0, 1, [1, 3, 0], [1, 1, 1], tolls=Row([10, 1, 1], 2)), False)
+        self.assertIs(keeps_at(ring(3), 0, 1, [1, 1, 1], [1, 1, 1], tolls=Row([18, 1, 1], 2)), False)
+        self.assertIs(keeps_at(ring(3), 0, 1, [1, 1, 1], [1, 3, 0], tolls=Row([10, 2, 1], 2)), True)
+        rng = random.Random(86)
+        for family, factor, lengths, widths, _ in cases(87, 200):
+            e = rng.randrange(family.things)
+            tolls = random_row_of(rng, family.things, 2, 3).with_entry(e, rng.randint(1, 40))
+            self.check(family, factor, lengths, widths, tolls, e)
+
     def check(self, family, factor, lengths, widths, tolls, e):
         """Check the answer at one thing against many entries there."""
         found = keeps_at(family, e, factor, lengths, widths, tolls=tolls)
