@@ -26,10 +26,10 @@ def corners_of(family):
     for ray in points:
         bottom = lcm(bottom, ray[-1])
     tops = sorted([[top * (bottom // ray[-1]) for top in ray[:-1]] for ray in points])
-    return [Row(_spread(row, useful, family.things), bottom) for row in tops]
+    return [Row(spread(row, useful, family.things), bottom) for row in tops]
 
 
-def _spread(tops, useful, things):
+def spread(tops, useful, things):
     """Return the entries of all things, 0 at the useless ones."""
     found = [0] * things
     for thing, top in zip(useful, tops):
@@ -105,7 +105,11 @@ def broken_corners(family):
 def cheapest_corner(family, tolls):
     """Return the first corner whose product with the tolls is least."""
     row = row_of(tolls, family.things)
-    corners = corners_of(family)
+    return cheapest_of(corners_of(family), row)
+
+
+def cheapest_of(corners, row):
+    """Return the first of some rows whose product with the other row is least."""
     best, least = None, 0
     for corner in corners:
         cost = sum([one * two for one, two in zip(corner.tops, row.tops)])

@@ -45,6 +45,13 @@ def check_families(families):
             raise BadFamily(place)
 
 
+def check_put_in(things, families):
+    """Raise BadFamily or OtherSize unless the value is a list of families, one for each of so many things."""
+    check_families(families)
+    if len(families) != things:
+        raise OtherSize(len(families))
+
+
 class Family:
     """A number of things and lots, sets of these things."""
 
@@ -117,9 +124,7 @@ class Family:
 
     def __call__(self, families):
         """Return the family with these families put in, one for each thing."""
-        check_families(families)
-        if len(families) != self.things:
-            raise OtherSize(len(families))
+        check_put_in(self.things, families)
         starts = starts_of(families)
         if starts[-1] > MOST_THINGS:
             raise BadNumber("things")

@@ -20,9 +20,14 @@ def short(family, lengths):
 def narrow(family, widths):
     """Return the least width of a lot of the blocker."""
     row = row_of(widths, family.things)
+    return lowest(narrow_top(family, row.tops, sum(row.tops)), row.bottom)
+
+
+def narrow_top(family, tops, limit):
+    """Return the least sum of tops on a lot of the blocker, but not more than the limit."""
     # things of width 0 cost nothing: the lots with one of them are met for nothing
-    masks = [mask for mask in family.masks if all([row.tops[thing] > 0 for thing in things_in(mask)])]
-    return lowest(_lightest(masks, row.tops, sum(row.tops)), row.bottom)
+    masks = [mask for mask in family.masks if all([tops[thing] > 0 for thing in things_in(mask)])]
+    return _lightest(masks, tops, limit)
 
 
 def _least_lots_by(lots, tops):

@@ -152,3 +152,15 @@ def whole_row(value, size):
         if entry[1] != 1:
             raise BadRow(place)
     return row_of(row, size)
+
+
+def over_one_bottom(rows):
+    """Return the entries of some rows as lists of integers over one bottom, and this bottom."""
+    bottom = 1
+    for row in rows:
+        bottom = lcm(bottom, row.bottom)
+    return [_tops_over(row, bottom) for row in rows], bottom
+
+
+def _tops_over(row, bottom):
+    return [top * (bottom // row.bottom) for top in row.tops]

@@ -121,3 +121,57 @@ def corners_by_definition(family):
         if point is not None and min(point) >= 0 and short_of(family.lots, point) >= 1:
             found.add(tuple(point))
     return sorted(found)
+
+
+def useless_beside(family, places, things):
+    """Return the family with its things at these places of so many things; the others are useless."""
+    return Family(things, [[places[e] for e in lot] for lot in family.lots])
+
+
+def random_cover(rng, family):
+    """Return a random row that is raised until it is a cover."""
+    row = random_row_of(rng, family.things, 3, 3)
+    while short_of(family.lots, fractions(row)) < 1:
+        row = row.with_entry(rng.randrange(family.things), (rng.randint(1, 6), 3))
+    return row
+
+
+def sum_of(*rows):
+    """Return the sum of the products of the entries of some rows as a Fraction."""
+    total = Fraction(0)
+    for entries in zip(*[fractions(row) for row in rows]):
+        product = Fraction(1)
+        for entry in entries:
+            product *= entry
+        total += product
+    return total
+
+
+def pairs_by_definition(family):
+    """Return all pairs of corners, x ascending, then y ascending, as tuples of Fractions."""
+    ours, theirs = corners_by_definition(family), corners_by_definition(~family)
+    return [(x, y) for x in ours for y in theirs]
+
+
+def price_by_definition(pairs, tolls):
+    """Return the least sum of the pairs, and those that have it."""
+    entries = fractions(tolls)
+    sums = [sum(q * a * b for q, a, b in zip(entries, x, y)) for x, y in pairs]
+    return min(sums), [pair for pair, value in zip(pairs, sums) if value == min(sums)]
+
+
+def tuples(row):
+    """Return the entries of a Row as a tuple of Fractions."""
+    return tuple(fractions(row))
+
+
+def rich_families(seed, count, least_things=3, most_things=7):
+    """Return random families of lots of middle sizes, of which many have broken corners."""
+    rng = random.Random(seed)
+    found = []
+    for _ in range(count):
+        things = rng.randint(least_things, most_things)
+        most = max(2, things // 2 + 1)
+        lots = [rng.sample(range(things), rng.randint(2, most)) for _ in range(rng.randint(3, 2 * things))]
+        found.append(Family(things, lots))
+    return found

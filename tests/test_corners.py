@@ -9,7 +9,7 @@ from shortbynarrow.corners import (
     bound_of, broken_corners, cheapest_corner, corners_of, whole_corners,
 )
 from shortbynarrow.covers import is_corner, is_cover, lowered, raised, tight_lots
-from shortbynarrow.errors import BadNumber, BadRow, BadThing, NotCover, OtherSize, TooMany
+from shortbynarrow.errors import BadNumber, BadRow, NotCover, OtherSize, TooMany
 from shortbynarrow.families import Family
 from shortbynarrow.mixes import mix_of_corners, mix_under, stretch
 from shortbynarrow.packings import cap, packing, row_of_packing
@@ -17,8 +17,8 @@ from shortbynarrow.putting import beside, both, merged
 from shortbynarrow.rows import Row
 from shortbynarrow.shapes import block, fan, four_points, ring, seven_lines, votes
 from tests.brute import (
-    NOT_LISTS, NOT_NUMBERS, all_families, amount_of, corners_by_definition, fraction, fractions,
-    is_amount, random_family, random_row_of, short_of, some_families,
+    NOT_NUMBERS, all_families, amount_of, corners_by_definition, fraction, fractions, is_amount,
+    random_cover, random_family, random_row_of, short_of, some_families,
 )
 from tests.cases import Case
 
@@ -28,24 +28,6 @@ BOUNDS = {1: 1, 2: 1, 3: 2, 4: 3, 5: 5, 6: 9, 7: 32}
 def sum_on(row, lot):
     """Return the sum of a row on a lot as a Fraction."""
     return sum((fraction(row[e]) for e in lot), Fraction(0))
-
-
-def random_cover(rng, family):
-    """Return a random row that is raised until it is a cover."""
-    row = random_row_of(rng, family.things, 3, 3)
-    while not is_cover(family, row):
-        row = row.with_entry(rng.randrange(family.things), (rng.randint(1, 6), 3))
-    return row
-
-
-def check_row_errors(case, call):
-    """Check the errors of a row of a family of three things."""
-    for wrong in NOT_LISTS + [[]]:
-        case.assert_error(BadRow(-1), call, wrong)
-    for wrong in [-1, True, None, "1", 0.5, (1, 2)]:
-        case.assert_error(BadRow(1), call, [0, wrong, -1, 4])
-    case.assert_error(OtherSize(2), call, [0, 0])
-    case.assert_error(OtherSize(4), call, Row([0, 0, 0, 1], 2))
 
 
 class CoversTest(Case):
@@ -111,10 +93,9 @@ class CoversTest(Case):
     def test_errors(self):
         family = Family(3, [(0, 1)])
         for call in (is_cover, tight_lots, lowered, is_corner):
-            check_row_errors(self, lambda row, call=call: call(family, row))
-        check_row_errors(self, lambda row: raised(family, row, 9))
-        for wrong in [-1, 3, True, None, "0", 0.0]:
-            self.assert_error(BadThing(wrong), raised, family, [0, 0, 0], wrong)
+            self.assert_row_errors(3, lambda row, call=call: call(family, row))
+        self.assert_row_errors(3, lambda row: raised(family, row, 9))
+        self.assert_thing_errors(3, lambda thing: raised(family, [0, 0, 0], thing))
 
     def test_great_families(self):
         rng = random.Random(107)
@@ -284,7 +265,7 @@ class SizesTest(Case):
     def test_rows_of_three(self):
         family = Family(3, [(0, 1)])
         for call in (cheapest_corner, mix_of_corners, mix_under, stretch):
-            check_row_errors(self, lambda row, call=call: call(family, row))
+            self.assert_row_errors(3, lambda row, call=call: call(family, row))
 
 
 class MixesTest(Case):

@@ -33,6 +33,23 @@ FUNCTIONS = {
     "corners": ["corners_of(family)", "whole_corners(family)", "broken_corners(family)",
                 "cheapest_corner(family, tolls)", "bound_of(number)"],
     "mixes": ["mix_under(family, row)", "stretch(family, row)", "mix_of_corners(family, row)"],
+    "breakers": ["breaking(family, row)", "breakers(family, row)"],
+    "cornerparts": ["corners_held(family, thing)", "lifted(family, row, thing)",
+                    "dropped(family, row, thing)"],
+    "cornerput": ["put_row(family, families, row, rows)", "put_corners(family, families)",
+                  "shares(family, families, row)"],
+    "pricing": ["price(family, tolls)", "best_pairs(family, tolls)", "best_pair(family, tolls)",
+                "sum_of_pair(x, y, tolls)", "price_limit(family, lengths, widths, *, tolls=None)"],
+    "loads": ["loads_of(family)", "lean_loads(family)", "price_by(loads, tolls)",
+              "rise(family, tolls, thing)", "greatest_rise(family, tolls, thing)"],
+    "partprices": ["price_of_part(family, tolls, left, kept)", "lesser_part(family, tolls, thing)",
+                   "lesser_parts(family, tolls, things)", "far_toll(family, tolls, things)",
+                   "rests(family, tolls, thing)"],
+    "putprices": ["put_price(family, families, tolls)", "put_prices_row(family, families, tolls)",
+                  "share_of(families, row, e)"],
+    "pairs": ["is_pair(family, x, y)", "some_family(x, y)", "failing_set(x, y)"],
+    "strains": ["strain(family)", "is_calm(family)", "worst_pair(family)",
+                "strain_of_part(family, left, kept)"],
 }
 GENERATORS = {"quiet_sets", "parts_of"}
 CLASSES = {
