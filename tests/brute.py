@@ -175,3 +175,26 @@ def rich_families(seed, count, least_things=3, most_things=7):
         lots = [rng.sample(range(things), rng.randint(2, most)) for _ in range(rng.randint(3, 2 * things))]
         found.append(Family(things, lots))
     return found
+
+
+def is_mix_of(lots, entries):
+    """Tell whether the Fractions are exactly the row of a mix of some of the lots."""
+    for chosen in subsets(lots):
+        rows = [[int(e in lot) for lot in chosen] for e in range(len(entries))] + [[1] * len(chosen)]
+        weights = solution_of(rows, [*entries, 1], len(chosen)) if chosen else None
+        if weights is not None and min(weights) >= 0:
+            return True
+    return False
+
+
+def random_mix(rng, family):
+    """Return the row of a random mix of a few lots of the family, a Row."""
+    lots = rng.sample(family.lots, rng.randint(1, min(3, len(family.lots))))
+    weights = [rng.randint(1, 4) for _ in lots]
+    tops = [sum(weight for weight, lot in zip(weights, lots) if e in lot) for e in range(family.things)]
+    return Row(tops, sum(weights))
+
+
+def positive_row_of(rng, size, most=4, bottom=3):
+    """Return a random Row without an entry 0."""
+    return Row([rng.randint(1, most) for _ in range(size)], rng.randint(1, bottom))

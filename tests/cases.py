@@ -62,3 +62,16 @@ class Case(unittest.TestCase):
         for other in (0, size - 1, size + 1):
             self.assert_error(OtherSize(other), call, [single] * other)
             self.assert_error(OtherSize(other), call, (single,) * other)
+
+    def assert_positive_row_errors(self, size, call, none_is_ones=False):
+        """Check the errors of a row of this size whose entries are to be above 0."""
+        for wrong in NOT_LISTS + [[], ()]:
+            if wrong is not None or not none_is_ones:
+                self.assert_error(BadRow(-1), call, wrong)
+        for wrong in [-1, True, None, "1", 0.5, (1, 2)]:
+            self.assert_error(BadRow(2), call, [0, 1, wrong, -1] + [1] * size)
+        self.assert_error(BadRow(1), call, [1, 0, 0] + [1] * size)
+        self.assert_error(BadRow(1), call, Row([2, 0] + [1] * size, 3))
+        for other in (size - 1, size + 1):
+            self.assert_error(OtherSize(other), call, [1] * other)
+            self.assert_error(OtherSize(other), call, Row([2] + [1] * (other - 1), 3))

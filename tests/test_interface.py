@@ -50,8 +50,19 @@ FUNCTIONS = {
     "pairs": ["is_pair(family, x, y)", "some_family(x, y)", "failing_set(x, y)"],
     "strains": ["strain(family)", "is_calm(family)", "worst_pair(family)",
                 "strain_of_part(family, left, kept)"],
+    "faces": ["worst_lengths(family)", "worst_widths(family)", "pack_ratio(family, widths)",
+              "lot_ratio(family, lengths)", "widest_stretch(family)"],
+    "bounds": ["strain_top(n)", "strain_bottom(n)", "least_broken(n)", "broken_family(n)", "is_votes(family)",
+               "size_bound(family)", "meeting_bound(family)", "holding_bound(family)"],
+    "blocks": ["block_family(family, lengths, widths)", "block_sizes(family, lengths, widths)",
+               "worst_blocks(family)"],
+    "settling": ["is_settled(family, x, y, *, tolls=None)", "settled_pairs(family, tolls)", "contrary_of(row)"],
+    "answers": ["answers_from(family, row, tolls)", "last_answer(family, row, tolls)"],
+    "bare": ["bare_play(family)", "raised_pair(family, thing, word, x, y)"],
+    "breaks": ["is_least_break(family)", "find_break(family)", "breaking_singles(family)"],
+    "cores": ["hub_of(family)", "read_break(family)"],
 }
-GENERATORS = {"quiet_sets", "parts_of"}
+GENERATORS = {"quiet_sets", "parts_of", "answers_from"}
 CLASSES = {
     ("rows", "Row"): {
         "plain": ["__init__(self, tops, bottom=1)", "at(self, things)", "total(self)", "dot(self, other)",
@@ -70,6 +81,26 @@ CLASSES = {
         "properties": ["useful"],
         "class": ["single(cls)"],
         "static": ["least_of(lots)"],
+    },
+    ("plays", "Play"): {
+        "plain": ["__init__(self, family, ours, theirs, *, costs=None)", "mean(self)", "better(self)",
+                  "is_steady(self)", "is_bare(self)", "mixes(self)", "pair_of(self)"],
+        "operators": ["__eq__"],
+        "properties": [],
+        "class": ["worst(cls, family, *, costs=None)", "of_pair(cls, family, x, y, *, costs=None)"],
+        "static": [],
+    },
+    ("cores", "Break"): {
+        "plain": ["__init__(self, family)", "ratio(self)"],
+        "operators": [], "properties": [], "class": [], "static": [],
+    },
+    ("cores", "FanBreak"): {
+        "plain": ["__init__(self, family)", "ratio(self)"],
+        "operators": [], "properties": [], "class": [], "static": [],
+    },
+    ("cores", "EvenBreak"): {
+        "plain": ["__init__(self, family)", "ratio(self)", "excess(self)"],
+        "operators": [], "properties": [], "class": [], "static": [],
     },
 }
 
