@@ -43,6 +43,14 @@ class HeldTest(Case):
         # the part has seven useful things, but the family is asked
         self.assert_error(TooMany(7), corners_held, votes(8, 8), 0)
 
+    def test_useless_things(self):
+        places = [1, 14, 22, 30, 47, 58, 59]
+        family = useless_beside(ring(7), places, 60)
+        self.assertEqual(corners_held(family, 0), corners_of(family))
+        found = corners_held(family, 22)
+        small = corners_held(ring(7), 2)
+        self.assertEqual([[x[e] for e in places] for x in found], [list(x) for x in small])
+
 
 class LeftTest(Case):
     """Point 41."""

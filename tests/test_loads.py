@@ -173,7 +173,10 @@ class SizesTest(Case):
             self.assertEqual([[row[e] for e in places] for row in found], [list(row) for row in small])
             self.assertTrue(all(row.total() == other.total() for row, other in zip(found, small)))
         tolls = Row([10 ** 39 + e for e in range(60)], 10 ** 39)
-        self.assertEqual(rise(family, tolls, 0), (0, 1))
+        self.assertEqual((rise(family, tolls, 0), greatest_rise(family, tolls, 0)), ((0, 1), (0, 1)))
+        small = Row.of_amounts([tolls[e] for e in places])
+        self.assert_same(rise(family, tolls, 31), rise(ring(7), small, 4))
+        self.assert_same(greatest_rise(family, tolls, 31), greatest_rise(ring(7), small, 4))
         self.assert_same(price_by(lean_loads(family), tolls), price(family, tolls))
 
     def test_many_corners(self):

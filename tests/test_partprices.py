@@ -210,6 +210,9 @@ class SizesTest(Case):
         tolls = Row([10 ** 40 - e for e in range(60)], 10 ** 39 + 7)
         small = Row.of_amounts([tolls[e] for e in places])
         self.assert_same(lesser_part(family, tolls, 9), lesser_part(votes(4, 7), small, 1))
+        self.assert_same(price_of_part(family, tolls, [0, 9, 58], [59, 2]),
+                         price_of_part(votes(4, 7), small, [1], [6]))
+        self.assertIs(rests(family, tolls, 9), rests(votes(4, 7), small, 1))
         self.assert_same(lesser_part(family, tolls, 0), price(family, tolls))
         self.assert_same(lesser_parts(family, tolls, list(range(30))),
                          lesser_parts(votes(4, 7), small, [0, 1, 2, 3]))

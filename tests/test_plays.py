@@ -3,7 +3,9 @@
 import random
 import unittest
 from fractions import Fraction
+from itertools import combinations
 
+from shortbynarrow.bounds import strain_top
 from shortbynarrow.breakers import breaking
 from shortbynarrow.errors import BadPlay, NotCover, OtherSize, TooMany
 from shortbynarrow.families import Family
@@ -233,6 +235,25 @@ class SteadyTest(Case):
                 if 1 / sum_of(x, y) == most:
                     play = Play.of_pair(family, x, y)
                     self.assertEqual((play.ours, play.theirs), (Row([k] * n, n), Row([n + 1 - k] * n, n)))
+
+    def test_no_mean_above_the_top(self):
+        reached = 0
+        for family in pool(1419) + [votes(2, 4), Family(5, votes(2, 3).lots), Family(4, votes(3, 4).lots)]:
+            u = len(family.useful)
+            middle = ((u + 1) // 2,) if u % 2 else (u // 2, u // 2 + 1)
+            kinds = [{tuple(lot) for lot in combinations(family.useful, k)} for k in middle]
+            for x, y in settled_pairs(family, [1] * family.things):
+                mean = 1 / sum_of(x, y)
+                self.assertLessEqual(mean, fraction(strain_top(u)))
+                if u >= 3 and mean == fraction(strain_top(u)):
+                    self.assertIn(set(family.lots), kinds)
+                    k = family.least_size()
+                    play = Play.of_pair(family, x, y)
+                    everything = Row.of_set(family.useful, family.things)
+                    self.assertEqual(play.ours, everything.scaled((k, u)))
+                    self.assertEqual(play.theirs, everything.scaled((u + 1 - k, u)))
+                    reached += 1
+        self.assertGreater(reached, 3)
 
     def test_bare_plays_need_not_reach_the_strain(self):
         family = Family(4, [(0, 1), (0, 2), (0, 3), (1, 2)])
