@@ -45,20 +45,23 @@ def _rays(family, useful):
     """
     size = len(useful) + 1
     everything = (1 << size) - 1
-    rays = []
-    for place in range(size):
-        ray = [0] * size
-        ray[place] = 1
-        rays.append((ray, everything & ~(1 << place)))
+    rays = [(_unit(size, place), everything & ~(1 << place)) for place in range(size)]
     for place, lot in enumerate(family.lots):
         places = [spot for spot, thing in enumerate(useful) if thing in lot]
         rays = _cut(rays, places, 1 << (size + place), size)
     return rays
 
 
+def _unit(size, place):
+    """Return so many integers, 1 at the place and 0 elsewhere."""
+    return [1 if spot == place else 0 for spot in range(size)]
+
+
 def _cut(rays, places, bit, size):
     """Return the rays when one more lot asks for its condition, told by the places of its things."""
-    above, below, kept = [], [], []
+    above = []
+    below = []
+    kept = []
     for ray, equal in rays:
         excess = sum([ray[place] for place in places]) - ray[-1]
         if excess > 0:

@@ -1,6 +1,5 @@
 """Point 84: answers in turn."""
 
-import inspect
 import random
 import unittest
 
@@ -99,17 +98,66 @@ class AnswersTest(Case):
         self.assertEqual(found, [(Row([1]), Row([1]), (3, 2))])
 
 
+class ListsTest(Case):
+    """Point 1: lists that are changed behind the call."""
+
+    def test_each_entry_changed(self):
+        due = list(answers_from(ring(5), [1, 1, 0, 0, 0], [1, 2, 3, 4, 5]))
+        self.assertGreaterEqual(len(due), 1)
+        for place in range(5):
+            for value in (0, 7, None):
+                row, tolls = [1, 1, 0, 0, 0], [1, 2, 3, 4, 5]
+                found = answers_from(ring(5), row, tolls)
+                row[place] = value
+                tolls[place] = value
+                self.assertEqual(list(found), due)
+
+    def test_emptied_or_longer(self):
+        due = list(answers_from(ring(5), [1, 1, 0, 0, 0], [1, 2, 3, 4, 5]))
+        row, tolls = [1, 1, 0, 0, 0], [1, 2, 3, 4, 5]
+        found = answers_from(ring(5), row, tolls)
+        row.clear()
+        tolls.append(0)
+        self.assertEqual(list(found), due)
+        # what was iterated over once can be iterated over again
+        self.assertEqual(list(found), due)
+
+    def test_wrong_lists_mended(self):
+        cases = [
+            ([1, -1, 0], [1, 1, 1], BadRow(1)), ([1, 1], [1, 1, 1], OtherSize(2)),
+            ([], [1, 1, 1], BadRow(-1)), ([1, 0, 0], [1, 1, 1], BadRow(-1)),
+            ([1, 1, 0], [1, 1, 0], BadRow(2)), ([1, 1, 0], [1, 1], OtherSize(2)),
+        ]
+        for row, tolls, fault in cases:
+            found = answers_from(votes(2, 3), row, tolls)
+            row[:], tolls[:] = [1, 1, 0], [1, 1, 1]
+            self.assert_error(fault, next, iter(found))
+        row, tolls = [1, 1, 0], [1, 1, 1]
+        found = answers_from(votes(2, 3), row, tolls)
+        row[:], tolls[:] = [5], [None]
+        self.assertEqual(list(found), [(Row([0, 1, 1]), Row([1, 1, 0]), (1, 1))])
+
+    def test_the_lists_stay_as_they_were(self):
+        row, tolls = [1, 1, 0], [1, 1, 1]
+        list(answers_from(votes(2, 3), row, tolls))
+        last_answer(votes(2, 3), row, tolls)
+        self.assertEqual([row, tolls], [[1, 1, 0], [1, 1, 1]])
+
+
 class ErrorsTest(Case):
     """The errors, which come when the iteration begins."""
 
     def test_nothing_before_the_iteration(self):
-        self.assertTrue(inspect.isgeneratorfunction(answers_from))
         waiting = answers_from(ring(3), None, None)
-        self.assert_error(BadRow(-1), next, waiting)
+        steps = iter(waiting)
+        self.assert_error(BadRow(-1), next, steps)
+        self.assert_error(BadRow(-1), list, waiting)
+        steps = iter(answers_from(ring(8), Row.of_set([0, 1], 8), [1] * 8))
+        self.assert_error(TooMany(7), next, steps)
 
     def test_errors(self):
         family = ring(3)
-        for call in (lambda *some: next(answers_from(*some)), last_answer):
+        for call in (lambda *some: next(iter(answers_from(*some))), last_answer):
             self.assert_row_errors(3, lambda row, call=call: call(family, row, None))
             self.assert_positive_row_errors(3, lambda tolls, call=call: call(family, [5, 5, 5], tolls))
             for row in ([5, 5, 5], [0, 0, 0], [1, 1, 1], Row([2, 2, 2], 3), [1, 0, 0]):

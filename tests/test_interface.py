@@ -62,7 +62,8 @@ FUNCTIONS = {
     "breaks": ["is_least_break(family)", "find_break(family)", "breaking_singles(family)"],
     "cores": ["hub_of(family)", "read_break(family)"],
 }
-GENERATORS = {"quiet_sets", "parts_of", "answers_from"}
+# answers_from copies the lists that it is handed at the call, so it is not a generator by itself
+GENERATORS = {"quiet_sets", "parts_of"}
 CLASSES = {
     ("rows", "Row"): {
         "plain": ["__init__(self, tops, bottom=1)", "at(self, things)", "total(self)", "dot(self, other)",

@@ -249,7 +249,18 @@ class LanguageTest(unittest.TestCase):
                         self.assertNotIn(node.func.value.id, params, where)
                 if isinstance(node, ast.Call) and isinstance(node.func, ast.Name):
                     self.assertNotIn(node.func.id, params - {"cls"}, where)
-                self.assertNotIsInstance(node, (ast.Yield, ast.YieldFrom), where)
+                if function.name != "__iter__":
+                    self.assertNotIsInstance(node, (ast.Yield, ast.YieldFrom), where)
+
+    def test_iteration_methods(self):
+        for name, tree in TREES.items():
+            for function in [f for f in functions_of(tree) if f.name == "__iter__"]:
+                rows = [row for row in function.body if not isinstance(getattr(row, "value", 0), ast.Constant)]
+                self.assertEqual(len(rows), 1, name)
+                self.assertIsInstance(rows[0].value, ast.YieldFrom, name)
+                self.assertRegex(ast.unparse(rows[0].value.value), r"^self(\.[a-z_]+){1,2}$", name)
+            # beside an __iter__ that yields, iter takes nothing but a list
+            self.assertFalse([n for n in ast.walk(tree) if isinstance(n, ast.Name) and n.id == "iter"], name)
 
 
 if __name__ == "__main__":
