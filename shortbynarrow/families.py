@@ -128,7 +128,7 @@ class Family:
         starts = starts_of(families)
         if starts[-1] > MOST_THINGS:
             raise BadNumber("things")
-        raised = [_raised_lots(family, start) for family, start in zip(families, starts)]
+        raised = [raised_lots(family, start) for family, start in zip(families, starts)]
         unions = []
         for lot in self.lots:
             unions.extend(_choices_of_lots([raised[thing] for thing in lot]))
@@ -160,7 +160,7 @@ def starts_of(families):
     return starts
 
 
-def _raised_lots(family, start):
+def raised_lots(family, start):
     """Return the lots of a family whose things are numbered from the start on."""
     return [tuple([start + thing for thing in lot]) for lot in family.lots]
 

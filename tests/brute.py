@@ -5,7 +5,10 @@ from fractions import Fraction
 from itertools import combinations
 
 from shortbynarrow.families import Family
+from shortbynarrow.filling import fill
+from shortbynarrow.loads import loads_of
 from shortbynarrow.rows import Row
+from shortbynarrow.trees import Leaf, Vote
 
 
 def subsets(things):
@@ -198,3 +201,47 @@ def random_mix(rng, family):
 def positive_row_of(rng, size, most=4, bottom=3):
     """Return a random Row without an entry 0."""
     return Row([rng.randint(1, most) for _ in range(size)], rng.randint(1, bottom))
+
+
+def contacts_by_loads(family, weights):
+    """Return the least sum of weight times entry over the rows that have at least 1 with each load, a Fraction."""
+    loads = loads_of(family)
+    columns = [list(load.tops) for load in loads]
+    return fraction(fill(columns, [load.bottom for load in loads], weights)[0])
+
+
+def random_tree(rng, names, most_branches=3):
+    """Return a random tree whose leaves have these names from the left; some votes have one branch."""
+    if len(names) == 1 and rng.random() < 0.8:
+        return Leaf(names[0])
+    many = rng.randint(1, min(most_branches, len(names)))
+    cuts = sorted(rng.sample(range(1, len(names)), many - 1))
+    pieces = [names[start:end] for start, end in zip([0, *cuts], [*cuts, len(names)])]
+    branches = [random_tree(rng, piece, most_branches) for piece in pieces]
+    return Vote(rng.randint(1, many), branches)
+
+
+def once_trees(seed, count, most_names=6, room=9):
+    """Return random trees in which each name is on one leaf."""
+    rng = random.Random(seed)
+    return [random_tree(rng, rng.sample(range(room), rng.randint(1, most_names)), rng.randint(2, 6))
+            for _ in range(count)]
+
+
+def any_trees(seed, count, most_leaves=8, room=5):
+    """Return random trees in which names may be on several leaves."""
+    rng = random.Random(seed)
+    return [random_tree(rng, [rng.randrange(room) for _ in range(rng.randint(1, most_leaves))], rng.randint(2, 4))
+            for _ in range(count)]
+
+
+def says_yes(tree, things):
+    """Tell whether a tree says yes to a set, from the definition."""
+    if isinstance(tree, Leaf):
+        return tree.name in things
+    return sum(says_yes(branch, things) for branch in tree.branches) >= tree.need
+
+
+def family_of_tree(tree, size):
+    """Return the family of the least sets that a tree says yes to, from the definition."""
+    return Family(size, least_sets(s for s in subsets(range(size)) if says_yes(tree, s)))

@@ -61,6 +61,20 @@ FUNCTIONS = {
     "bare": ["bare_play(family)", "raised_pair(family, thing, word, x, y)"],
     "breaks": ["is_least_break(family)", "find_break(family)", "breaking_singles(family)"],
     "cores": ["hub_of(family)", "read_break(family)"],
+    "breakprices": ["break_price(found, tolls)", "put_break_price(found, families, tolls)"],
+    "couples": ["is_couples(family)", "odd_ring(family)", "cliques(family)", "greatest_quiet(family)",
+                "hueing(family)", "joined(*families)"],
+    "hues": ["hues(family)", "quiet_mix(family)", "couple_price(family, tolls)", "couple_strain(family)",
+             "half_row(family)", "hue_bound(family)"],
+    "votes": ["vote_short(k, lengths)", "vote_cap(k, widths)", "vote_price(k, tolls)",
+              "vote_contacts(k, weights)", "vote_strain(k, n)", "vote_rises(k, n)", "vote_product(k, n, m)",
+              "vote_corners(k, n)"],
+    "treetexts": ["tree_text(tree)", "tree_from(text)"],
+    "treevalues": ["tree_short(tree, lengths)", "tree_narrow(tree, widths)", "tree_cap(tree, widths)",
+                   "tree_price(tree, tolls)", "tree_contacts(tree, weights)", "tree_strain(tree)",
+                   "tree_least(tree)", "level_tree(needs)"],
+    "ways": ["ways_of(net)", "cuts_of(net)", "net_family(net)", "distances(net, lengths)",
+             "cut_at(net, lengths, level)"],
 }
 # answers_from copies the lists that it is handed at the call, so it is not a generator by itself
 GENERATORS = {"quiet_sets", "parts_of"}
@@ -102,6 +116,28 @@ CLASSES = {
     ("cores", "EvenBreak"): {
         "plain": ["__init__(self, family)", "ratio(self)", "excess(self)"],
         "operators": [], "properties": [], "class": [], "static": [],
+    },
+    ("trees", "Tree"): {
+        "plain": ["__init__(self)", "__call__(self, things)", "leaves(self)", "is_once(self)", "depth(self)",
+                  "family_on(self, size)", "leaf_row(self, size)", "numbered(self)", "lot_count(self)"],
+        "operators": ["__invert__", "__eq__"],
+        "properties": ["names"],
+        "class": [], "static": [],
+    },
+    ("trees", "Leaf"): {
+        "plain": ["__init__(self, name)"],
+        "operators": [], "properties": [], "class": [], "static": [],
+    },
+    ("trees", "Vote"): {
+        "plain": ["__init__(self, need, branches)"],
+        "operators": [], "properties": [], "class": [], "static": [],
+    },
+    ("nets", "Net"): {
+        "plain": ["__init__(self, points, links, size)", "row_of_contacts(self)", "is_single(self)"],
+        "operators": ["__eq__", "__len__"],
+        "properties": [],
+        "class": ["of_lots(cls, family)"],
+        "static": [],
     },
 }
 
