@@ -1,10 +1,8 @@
 """Corners: the covers that are not halfway between two other ones."""
 
-from math import gcd, lcm
-
 from shortbynarrow.checks import is_between
 from shortbynarrow.errors import BadNumber, TooMany
-from shortbynarrow.lots import count_in
+from shortbynarrow.rays import corner_tops
 from shortbynarrow.rows import Row, row_of
 
 MOST_USEFUL = 7
@@ -21,12 +19,8 @@ def corners_of(family):
     """Return the list of all corners, ascending."""
     check_useful(family)
     useful = family.useful
-    points = [ray for ray, _ in _rays(family, useful) if ray[-1] > 0]
-    bottom = 1
-    for ray in points:
-        bottom = lcm(bottom, ray[-1])
-    tops = sorted([[top * (bottom // ray[-1]) for top in ray[:-1]] for ray in points])
-    return [Row(spread(row, useful, family.things), bottom) for row in tops]
+    conditions = [[1 if thing in lot else 0 for thing in useful] + [-1] for lot in family.lots]
+    return [Row(spread(tops, useful, family.things), bottom) for tops, bottom in corner_tops(conditions)]
 
 
 def spread(tops, useful, things):
@@ -35,64 +29,6 @@ def spread(tops, useful, things):
     for thing, top in zip(useful, tops):
         found[thing] = top
     return found
-
-
-def _rays(family, useful):
-    """Return the rays of all (x, t) with x(a) >= t for each lot a, and with no entry below 0.
-
-    A ray with t > 0 stands for the corner x / t. Each ray comes with the mask of the conditions that
-    it meets with equality: the first bits stand for the entries, the others for the lots.
-    """
-    size = len(useful) + 1
-    everything = (1 << size) - 1
-    rays = [(_unit(size, place), everything & ~(1 << place)) for place in range(size)]
-    for place, lot in enumerate(family.lots):
-        places = [spot for spot, thing in enumerate(useful) if thing in lot]
-        rays = _cut(rays, places, 1 << (size + place), size)
-    return rays
-
-
-def _unit(size, place):
-    """Return so many integers, 1 at the place and 0 elsewhere."""
-    return [1 if spot == place else 0 for spot in range(size)]
-
-
-def _cut(rays, places, bit, size):
-    """Return the rays when one more lot asks for its condition, told by the places of its things."""
-    above = []
-    below = []
-    kept = []
-    for ray, equal in rays:
-        excess = sum([ray[place] for place in places]) - ray[-1]
-        if excess > 0:
-            above.append((ray, equal, excess))
-            kept.append((ray, equal))
-        elif excess == 0:
-            kept.append((ray, equal | bit))
-        else:
-            below.append((ray, equal, -excess))
-    masks = [equal for _, equal in rays]
-    for ray, equal, excess in above:
-        for other, others, lack in below:
-            if _are_neighbours(equal & others, masks, size):
-                made = [lack * one + excess * two for one, two in zip(ray, other)]
-                kept.append((_shortened(made), equal & others | bit))
-    return kept
-
-
-def _are_neighbours(common, masks, size):
-    """Tell whether just two rays meet the conditions that these two have in common."""
-    if count_in(common) < size - 2:
-        return False
-    return len([mask for mask in masks if mask & common == common]) == 2
-
-
-def _shortened(ray):
-    """Return the integers of a ray without a common divisor."""
-    common = 0
-    for entry in ray:
-        common = gcd(common, entry)
-    return [entry // common for entry in ray]
 
 
 def whole_corners(family):

@@ -127,6 +127,22 @@ def most_frequent(masks):
     return best, most
 
 
+def each_blocker_mask(masks):
+    """Yield, one after another, what `blocker_masks` returns: for those who may stop early."""
+    if not masks:
+        yield 0
+        return
+    bit = most_frequent(masks)[0]
+    without = [mask for mask in masks if not mask & bit]
+    cut = [mask & ~bit for mask in masks if mask & bit]
+    for mask in each_blocker_mask(without):
+        if not meets_all(mask, cut):
+            yield mask | bit
+    if 0 not in cut:
+        rest = least_masks(without + cut)
+        yield from each_blocker_mask(rest)
+
+
 def _choices(masks):
     """Return all sets with one thing of each of some masks without a common thing."""
     found = [0]

@@ -2,6 +2,7 @@
 
 from shortbynarrow.covers import checked_cover
 from shortbynarrow.errors import BadRow
+from shortbynarrow.lengths import narrow_top
 from shortbynarrow.packings import cap
 from shortbynarrow.pricing import CornerPairs, sum_of_pair
 from shortbynarrow.rows import Row, row_of
@@ -34,7 +35,9 @@ def contrary_of(row):
 def covers_of_both(family, x, y):
     """Raise NotCover unless the first row is a cover of the family and the second one of its blocker."""
     checked_cover(family, x)
-    checked_cover(~family, y)
+    # a blocker with far too many lots is listed only to tell the first one that is not covered
+    if narrow_top(family, y.tops, y.bottom) < y.bottom:
+        checked_cover(~family, y)
 
 
 def settles(family, x, y, tolls):

@@ -245,3 +245,40 @@ def says_yes(tree, things):
 def family_of_tree(tree, size):
     """Return the family of the least sets that a tree says yes to, from the definition."""
     return Family(size, least_sets(s for s in subsets(range(size)) if says_yes(tree, s)))
+
+
+def lean_rows_by_definition(family):
+    """Return the rows that are enough, are 0 at useless things and are told by equations, ascending, as tuples."""
+    useful = family.useful
+    loads = sorted({tuple(a * b for a, b in zip(x, y)) for x, y in pairs_by_definition(family)})
+    loads = [load for load in loads if not any(u != load and all(a <= b for a, b in zip(u, load)) for u in loads)]
+    equations = [([load[e] for e in useful], 1) for load in loads]
+    # a row that is enough has at least 1 at each useful thing, so no entry is 0
+    found = set()
+    for chosen in combinations(equations, len(useful)):
+        point = solution_of([row for row, _ in chosen], [value for _, value in chosen], len(useful))
+        if point is not None and min(point) >= 0:
+            if all(sum(a * b for a, b in zip(row, point)) >= 1 for row, _ in equations):
+                row = [Fraction(0)] * family.things
+                for e, value in zip(useful, point):
+                    row[e] = value
+                found.add(tuple(row))
+    return sorted(found)
+
+
+def is_lean_row(family, row):
+    """Tell whether a Row is enough, 0 at useless things, and the only row with 1 on the loads that it has 1 on."""
+    useful = family.useful
+    entries = fractions(row)
+    if any(entries[e] for e in range(family.things) if e not in useful):
+        return False
+    rows = []
+    for load in loads_of(family):
+        total = sum(a * b for a, b in zip(fractions(load), entries))
+        if total < 1:
+            return False
+        if total == 1:
+            rows.append([fraction(load[e]) for e in useful])
+    rows += [[int(e == f) for f in useful] for e in useful if entries[e] == 0]
+    values = [sum(a * entries[e] for a, e in zip(row, useful)) for row in rows]
+    return solution_of(rows, values, len(useful)) is not None

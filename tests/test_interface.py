@@ -75,6 +75,19 @@ FUNCTIONS = {
                    "tree_least(tree)", "level_tree(needs)"],
     "ways": ["ways_of(net)", "cuts_of(net)", "net_family(net)", "distances(net, lengths)",
              "cut_at(net, lengths, level)"],
+    "contacts": ["is_enough(family, row)", "contacts(family, weights=None)", "enough_row(family, weights=None)",
+                 "lean_rows(family)", "pair_weights(family, weights=None)", "least_links(family)",
+                 "contact_mix(family)"],
+    "formulas": ["net_of_tree(tree, size)", "tree_of_lots(family)", "tree_of_blocker(family)",
+                 "contact_sides(family)"],
+    "putnets": ["put_nets(net, nets)"],
+    "unseen": ["price_ends(family, stretches)", "row_with_price(family, stretches, value)",
+               "end_row(family, stretches, load, other)", "regret(family, stretches, x, y)",
+               "worst_row(family, stretches, x, y)", "is_safe(family, stretches, x, y)",
+               "safe_pairs(family, stretches)"],
+    "deeds": ["deed_text(deed)"],
+    "trials": ["tried(desk, deeds)"],
+    "listings": ["listing(desk)"],
 }
 # answers_from copies the lists that it is handed at the call, so it is not a generator by itself
 GENERATORS = {"quiet_sets", "parts_of"}
@@ -139,6 +152,36 @@ CLASSES = {
         "class": ["of_lots(cls, family)"],
         "static": [],
     },
+    ("stretches", "Stretches"): {
+        "plain": ["__init__(self, ends)", "lows(self)", "highs(self)", "seen(self)", "agrees(self, row)",
+                  "asked(self, thing, toll)"],
+        "operators": ["__eq__", "__len__"],
+        "properties": [], "class": [], "static": [],
+    },
+    ("desks", "Desk"): {
+        "plain": ["__init__(self, family, *, tolls=None)", "set_toll(self, thing, toll)", "hold(self, thing)",
+                  "leave(self, thing)", "put_lot(self, lot)", "drop_lot(self, lot)", "put(self, thing, family)",
+                  "merge(self, names, size)", "turn(self)", "back(self)", "price_now(self)", "strain_now(self)",
+                  "contacts_now(self)", "pair_now(self)", "play_now(self)"],
+        "operators": ["__iter__", "__len__"],
+        "properties": ["family_now", "tolls_now", "deeds"],
+        "class": [], "static": [],
+    },
+    ("trials", "Trial"): {
+        "plain": ["__init__(self, desk)"],
+        "operators": ["__enter__", "__exit__"],
+        "properties": [], "class": [], "static": [],
+    },
+}
+
+
+ERRORS = {
+    "Trouble": (), "BadNumber": ("word",), "BadAmount": ("word",), "BadSet": ("place",), "BadRow": ("place",),
+    "BadLots": ("place",), "EmptyLot": ("place",), "NoLots": (), "BadFamily": ("place",), "BadThing": ("thing",),
+    "BadNames": ("place",), "BadMix": ("place",), "BadPlay": ("word",), "BadTree": ("word",), "BadNet": ("place",),
+    "BadStretch": ("place",), "BadDeed": ("word",), "OtherSize": ("size",), "Lost": ("thing", "word"),
+    "Clash": ("thing",), "NotCover": ("lot",), "NotCouples": ("lot",), "NotOnce": ("name",), "NoWay": (),
+    "NothingBack": (), "TooMany": ("limit",), "BadText": ("line", "word"),
 }
 
 
@@ -155,6 +198,24 @@ class InterfaceTest(unittest.TestCase):
                 self.assertEqual(str(inspect.signature(one)), "(" + arguments, entry)
                 self.assertEqual(one.__module__, found.__name__, entry)
                 self.assertEqual(inspect.isgeneratorfunction(one), name in GENERATORS, entry)
+
+    def test_errors(self):
+        errors = importlib.import_module("shortbynarrow.errors")
+        for name, arguments in ERRORS.items():
+            found = getattr(errors, name)
+            self.assertEqual(found.__bases__, (Exception,) if name == "Trouble" else (errors.Trouble,))
+            values = list(range(5, 5 + len(arguments)))
+            self.assertEqual(vars(found(*values)), dict(zip(arguments, values)), name)
+            if values:
+                self.assertEqual(vars(found(**dict(zip(arguments, values)))), dict(zip(arguments, values)), name)
+        own = {name for name, value in vars(errors).items() if isinstance(value, type)}
+        self.assertEqual(own, set(ERRORS))
+
+    def test_class_values(self):
+        cores = importlib.import_module("shortbynarrow.cores")
+        self.assertEqual((cores.Break.KIND, cores.FanBreak.KIND, cores.EvenBreak.KIND), ("", "fan", "even"))
+        trees = importlib.import_module("shortbynarrow.trees")
+        self.assertTrue(issubclass(trees.Leaf, trees.Tree) and issubclass(trees.Vote, trees.Tree))
 
     def test_classes(self):
         for (module, name), kinds in CLASSES.items():

@@ -92,6 +92,29 @@ def pure_functions():
     return found
 
 
+def is_new(value):
+    """Tell whether an expression surely gives a new list or dict."""
+    if isinstance(value, (ast.List, ast.Dict, ast.ListComp, ast.DictComp)):
+        return True
+    if isinstance(value, ast.Call):
+        return getattr(value.func, "id", None) in ("list", "dict", "sorted")
+    if isinstance(value, ast.BinOp):
+        times = isinstance(value.op, ast.Mult) and isinstance(value.left, ast.List)
+        return times or isinstance(value.op, ast.Add) and is_new(value.left) and is_new(value.right)
+    return isinstance(value, ast.Subscript) and isinstance(value.slice, ast.Slice)
+
+
+def changed_names(function):
+    """Return what a function changes items of, as texts."""
+    found = set()
+    for node in ast.walk(function):
+        if isinstance(node, ast.Subscript) and isinstance(node.ctx, (ast.Store, ast.Del)):
+            found.add(ast.unparse(node.value))
+        if isinstance(node, ast.Call) and isinstance(node.func, ast.Attribute) and node.func.attr in CHANGING:
+            found.add(ast.unparse(node.func.value))
+    return found
+
+
 class LanguageTest(unittest.TestCase):
     """One test for each kind of rule."""
 
@@ -163,7 +186,10 @@ class LanguageTest(unittest.TestCase):
                     self.assertTrue(all(handler.type is not None for handler in node.handlers))
                 if isinstance(node, (ast.FunctionDef, ast.ClassDef)):
                     for one in node.decorator_list:
-                        self.assertIn(one.id, ("property", "staticmethod", "classmethod"))
+                        if isinstance(one, ast.Attribute):
+                            self.assertEqual((one.attr, one.value.id), ("setter", node.name))
+                        else:
+                            self.assertIn(one.id, ("property", "staticmethod", "classmethod"))
                 if isinstance(node, ast.FunctionDef) and node.name.startswith("__"):
                     self.assertIn(node.name, SPECIAL)
                 if isinstance(node, ast.Assert):
@@ -251,6 +277,64 @@ class LanguageTest(unittest.TestCase):
                     self.assertNotIn(node.func.id, params - {"cls"}, where)
                 if function.name != "__iter__":
                     self.assertNotIsInstance(node, (ast.Yield, ast.YieldFrom), where)
+
+    def test_operators_change_only_what_they_created(self):
+        for function in pure_functions():
+            values = {}
+            for node in ast.walk(function):
+                if isinstance(node, ast.Assign):
+                    for target in node.targets:
+                        plain = isinstance(target, ast.Name)
+                        stored = [n for n in ast.walk(target) if isinstance(n, ast.Name) and isinstance(n.ctx, ast.Store)]
+                        for name in [n.id for n in stored]:
+                            values.setdefault(name, []).append(plain and is_new(node.value))
+                if isinstance(node, ast.For):
+                    for name in [n.id for n in ast.walk(node.target) if isinstance(n, ast.Name)]:
+                        values.setdefault(name, []).append(False)
+            for name in changed_names(function):
+                self.assertTrue(name in values and all(values[name]), (function.name, name))
+
+    def test_methods_attributes_and_properties(self):
+        methods, properties, attributes, read = set(), set(), set(), set()
+        for tree in TREES.values():
+            for function in [f for c in tree.body if isinstance(c, ast.ClassDef) for f in c.body]:
+                if isinstance(function, ast.FunctionDef):
+                    marks = [ast.unparse(one) for one in function.decorator_list]
+                    accessor = any(mark == "property" or mark.endswith(".setter") for mark in marks)
+                    (properties if accessor else methods).add(function.name)
+            for node in [n for n in ast.walk(tree) if isinstance(n, ast.Attribute)]:
+                (attributes if isinstance(node.ctx, ast.Store) else read).add(node.attr)
+        self.assertFalse(methods & attributes)
+        self.assertFalse(properties & (attributes | methods))
+        self.assertFalse(attributes & (METHODS - {"count", "index", "find", "get", "join", "lower", "upper", "split",
+                                                  "strip", "copy"}))
+        values = {"KIND", "setter"}
+        self.assertLessEqual(read, methods | properties | attributes | METHODS | values)
+
+    def test_blocks_with_an_exit(self):
+        for tree in TREES.values():
+            for function in functions_of(tree):
+                if function.name == "__exit__":
+                    for row in function.body:
+                        self.assertIsInstance(row, ast.Assign)
+                        self.assertIsInstance(row.value, ast.Attribute)
+            for node in [n for n in ast.walk(tree) if isinstance(n, ast.With)]:
+                self.assertTrue(all(isinstance(item.context_expr, ast.Call) for item in node.items))
+
+    def test_generators_are_iterated_at_once(self):
+        made = {f.name for tree in TREES.values() for f in functions_of(tree) if f.name != "__iter__"
+                and any(isinstance(n, (ast.Yield, ast.YieldFrom)) for n in ast.walk(f))}
+        for name, tree in TREES.items():
+            at_once = set()
+            for node in ast.walk(tree):
+                if isinstance(node, (ast.For, ast.comprehension)):
+                    at_once.add(node.iter)
+                if isinstance(node, ast.YieldFrom):
+                    at_once.add(node.value)
+            for node in ast.walk(tree):
+                if isinstance(node, ast.Call) and getattr(node.func, "id", None) in made:
+                    self.assertIn(node, at_once, (name, node.lineno))
+                    self.assertTrue(all(isinstance(one, ast.Name) for one in node.args), (name, node.lineno))
 
     def test_iteration_methods(self):
         for name, tree in TREES.items():
