@@ -27,9 +27,8 @@ class Links:
 
     def __init__(self, family, weights):
         row = tolls_of(weights, family.things)
-        check_useful(family)
-        useful = family.useful
         self.loads = lean_loads(family)
+        useful = family.useful
         columns = [[load.tops[thing] for thing in useful] for load in self.loads]
         room = Row([row.tops[thing] for thing in useful], row.bottom)
         found = best_filling(columns, [load.bottom for load in self.loads], room)

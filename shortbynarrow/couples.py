@@ -122,7 +122,8 @@ def hueing(family):
     ways = {0: ()}
     while everything not in ways:
         ways = _with_one_more(ways, everything, quiet)
-    return tuple(sorted([things_in(mask) for mask in ways[everything]]))
+    # each part has the least thing that the parts ahead of it leave, so they are ascending
+    return tuple([things_in(mask) for mask in ways[everything]])
 
 
 def _with_one_more(ways, everything, quiet):

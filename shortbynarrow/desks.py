@@ -38,7 +38,7 @@ def _tolls_of_desk(tolls, size):
         return Row.ones(size)
     if isinstance(tolls, Row):
         fitting = [entry[1] == 1 and entry[0] > 0 for entry in tolls]
-    elif is_list(tolls) and len(tolls) > 0:
+    elif is_list(tolls):
         fitting = [_is_toll(entry) for entry in tolls]
     else:
         raise BadRow(-1)

@@ -18,8 +18,8 @@ def _check_formula(tree):
 
 
 def _is_chain(tree):
-    """Tell whether the branches of a vote are laid one behind another."""
-    return tree.need == len(tree.branches) and tree.need > 1
+    """Tell whether the branches of a vote are laid one behind another; a single one is, too."""
+    return tree.need == len(tree.branches)
 
 
 def _inner_points(tree):

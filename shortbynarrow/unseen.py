@@ -1,7 +1,6 @@
 """Prices and pairs at tolls that are known only as stretches."""
 
 from shortbynarrow.amounts import ZERO, amount, at_most, greatest, is_amount, lowest
-from shortbynarrow.corners import check_useful
 from shortbynarrow.errors import BadAmount, OtherSize
 from shortbynarrow.loads import lean_loads
 from shortbynarrow.pricing import best_pairs, price, sum_of_pair
@@ -83,7 +82,6 @@ def _worst_of_pair(family, stretches, x, y):
     _check_stretches(family, stretches)
     ours, theirs = row_of(x, family.things), row_of(y, family.things)
     covers_of_both(family, ours, theirs)
-    check_useful(family)
     return _worst_end(stretches, ours * theirs, lean_loads(family))
 
 

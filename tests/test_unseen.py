@@ -213,6 +213,16 @@ class RegretTest(Case):
         self.assert_same(regret(family, known, best, half), (0, 1))
         self.assertIs(is_safe(family, known, best, half), True)
 
+    def test_the_first_lean_load(self):
+        # thing 2 costs as much as thing 0 at most: its load comes first, though the pair is safe
+        known = Stretches([(1, 2), (5, 5), (2, 2)])
+        x, y = [1, 1, 0], [1, 0, 1]
+        self.assert_same(regret(votes(2, 3), known, x, y), (0, 1))
+        self.assertEqual(worst_row(votes(2, 3), known, x, y), Row([2, 5, 2]))
+        # no other load comes as near: the first one is that of the pair itself
+        known = Stretches([(1, 2), (5, 5), (3, 3)])
+        self.assertEqual(worst_row(votes(2, 3), known, x, y), Row([1, 5, 3]))
+
     def test_great_numbers(self):
         rng = random.Random(3310)
         for family in (votes(4, 7), seven_lines(), rich_families(3311, 1, 7, 7)[0]):
