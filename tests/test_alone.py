@@ -83,6 +83,7 @@ class AloneTest(Case):
             for wrong in NOT_LISTS + [[], [0], [0, 2], [0, 1, 1], (0, 1, 2), [0, 4], [0, True], [1, 2]]:
                 self.assert_error(BadLots(1), call, family, [(2, 1), wrong, None])
             self.assert_error(BadLots(2), call, family, ([1, 0], [1, 2], (0, 1)))
+            self.assert_error(BadLots(2), call, family, ([0, 1], [1, 2], (1, 0)))
             self.assert_error(NoLots(), call, family, [])
             self.assert_error(NoLots(), call, family, ())
 
