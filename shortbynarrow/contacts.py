@@ -19,7 +19,7 @@ def is_enough(family, row):
     return at_most(ONE, price(family, row))
 
 
-class Links:
+class LoadWeights:
     """The greatest sum of amounts on lean loads within the weights, and a row that shows it.
 
     A load is put in as its tops, so an amount on it is its bottom times what the filling says.
@@ -39,18 +39,18 @@ class Links:
 
 def contacts(family, weights=None):
     """Return the least sum of weight times entry over the rows that are enough."""
-    return Links(family, weights).most
+    return LoadWeights(family, weights).most
 
 
 def enough_row(family, weights=None):
     """Return a lean row with this sum."""
-    return Links(family, weights).row
+    return LoadWeights(family, weights).row
 
 
 def pair_weights(family, weights=None):
     """Return amounts on lean loads that fit into the weights and have this sum."""
-    links = Links(family, weights)
-    pairs = list(zip(links.loads, links.shares))
+    found = LoadWeights(family, weights)
+    pairs = list(zip(found.loads, found.shares))
     return tuple([(load, times(load.bottom, share)) for load, share in pairs if share != ZERO])
 
 
