@@ -18,11 +18,6 @@ def is_list(value):
     return isinstance(value, (list, tuple))
 
 
-def copied(value):
-    """Return the value, a list as a tuple that no later change of the list reaches."""
-    return tuple(value) if isinstance(value, list) else value
-
-
 def check_size(size):
     """Raise BadNumber("size") unless the value is an integer >= 1."""
     if not is_whole_number(size) or size < 1:

@@ -96,7 +96,7 @@ class Desk:
         return self.now.texts
 
     def __iter__(self):
-        yield from self.now.texts
+        return iter(self.now.texts)
 
     def __len__(self):
         return len(self.now.texts)

@@ -93,7 +93,7 @@ class Family:
         return isinstance(x, tuple) and x in self.lots
 
     def __iter__(self):
-        yield from self.lots
+        return iter(self.lots)
 
     def __or__(self, other):
         if other.things != self.things:

@@ -96,7 +96,7 @@ class Row:
         return self._entries[at]
 
     def __iter__(self):
-        yield from self._entries
+        return iter(self._entries)
 
     def at(self, things):
         """Return the sum of the entries on a set."""

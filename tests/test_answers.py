@@ -1,5 +1,6 @@
 """Point 84: answers in turn."""
 
+import inspect
 import random
 import unittest
 
@@ -98,66 +99,101 @@ class AnswersTest(Case):
         self.assertEqual(found, [(Row([1]), Row([1]), (3, 2))])
 
 
+class GeneratorTest(Case):
+    """The pairs are yielded one after another."""
+
+    def test_one_after_another(self):
+        found = answers_from(votes(2, 3), [1, 1, 0], [1, 1, 1])
+        self.assertTrue(inspect.isgenerator(found))
+        self.assertIs(iter(found), found)
+        self.assertEqual(next(found), (Row([0, 1, 1]), Row([1, 1, 0]), (1, 1)))
+        for _ in range(2):
+            with self.assertRaises(StopIteration):
+                next(found)
+        self.assertEqual(list(found), [])
+
+    def test_pairs_of_the_ring(self):
+        found = answers_from(ring(5), [1, 1, 0, 0, 0], [10, 10, 1, 2, 1])
+        first = next(found)
+        self.assertEqual(first, (Row([0, 1, 0, 1, 1]), Row([1, 1, 0, 0, 0]), (10, 1)))
+        rest = list(found)
+        self.assertEqual([entry[2] for entry in rest], [(1, 1)])
+        self.assertEqual(rest[0][0], first[0])
+        self.assertEqual(last_answer(ring(5), [1, 1, 0, 0, 0], [10, 10, 1, 2, 1]), rest[0])
+
+    def test_two_at_a_time(self):
+        # neither of two iterations over the same lists knows of the other one
+        row, tolls = [1, 1, 0, 0, 0], [10, 10, 1, 2, 1]
+        one, two = answers_from(ring(5), row, tolls), answers_from(ring(5), row, tolls)
+        first = next(one)
+        self.assertEqual(list(two), [first, *one])
+
+
 class ListsTest(Case):
-    """Point 1: lists that are changed behind the call."""
+    """Point 1: lists that are changed behind the first pair, and arguments that stay as they were."""
+
+    def begun(self):
+        """Return the lists that were handed in, the generator and its first pair."""
+        row, tolls = [1, 1, 0, 0, 0], [10, 10, 1, 2, 1]
+        found = answers_from(ring(5), row, tolls)
+        return row, tolls, found, next(found)
 
     def test_each_entry_changed(self):
-        due = list(answers_from(ring(5), [1, 1, 0, 0, 0], [1, 2, 3, 4, 5]))
-        self.assertGreaterEqual(len(due), 1)
+        due = list(answers_from(ring(5), [1, 1, 0, 0, 0], [10, 10, 1, 2, 1]))
+        self.assertEqual(len(due), 2)
         for place in range(5):
-            for value in (0, 7, None):
-                row, tolls = [1, 1, 0, 0, 0], [1, 2, 3, 4, 5]
-                found = answers_from(ring(5), row, tolls)
+            for value in (0, 7, -1, None):
+                row, tolls, found, first = self.begun()
                 row[place] = value
                 tolls[place] = value
-                self.assertEqual(list(found), due)
+                self.assertEqual([first, *found], due)
 
     def test_emptied_or_longer(self):
-        due = list(answers_from(ring(5), [1, 1, 0, 0, 0], [1, 2, 3, 4, 5]))
-        row, tolls = [1, 1, 0, 0, 0], [1, 2, 3, 4, 5]
-        found = answers_from(ring(5), row, tolls)
+        due = list(answers_from(ring(5), [1, 1, 0, 0, 0], [10, 10, 1, 2, 1]))
+        row, tolls, found, first = self.begun()
         row.clear()
         tolls.append(0)
-        self.assertEqual(list(found), due)
-        # what was iterated over once can be iterated over again
-        self.assertEqual(list(found), due)
+        self.assertEqual([first, *found], due)
+        row, tolls, found, first = self.begun()
+        row.append(1)
+        tolls.clear()
+        self.assertEqual([first, *found], due)
 
-    def test_wrong_lists_mended(self):
+    def test_lists_are_read_at_the_first_step(self):
         cases = [
             ([1, -1, 0], [1, 1, 1], BadRow(1)), ([1, 1], [1, 1, 1], OtherSize(2)),
             ([], [1, 1, 1], BadRow(-1)), ([1, 0, 0], [1, 1, 1], BadRow(-1)),
             ([1, 1, 0], [1, 1, 0], BadRow(2)), ([1, 1, 0], [1, 1], OtherSize(2)),
         ]
-        for row, tolls, fault in cases:
+        for wrong, other, fault in cases:
+            row, tolls = [1, 1, 0], [1, 1, 1]
             found = answers_from(votes(2, 3), row, tolls)
-            row[:], tolls[:] = [1, 1, 0], [1, 1, 1]
-            self.assert_error(fault, next, iter(found))
-        row, tolls = [1, 1, 0], [1, 1, 1]
-        found = answers_from(votes(2, 3), row, tolls)
-        row[:], tolls[:] = [5], [None]
-        self.assertEqual(list(found), [(Row([0, 1, 1]), Row([1, 1, 0]), (1, 1))])
+            row[:], tolls[:] = wrong, other
+            self.assert_error(fault, next, found)
 
     def test_the_lists_stay_as_they_were(self):
-        row, tolls = [1, 1, 0], [1, 1, 1]
-        list(answers_from(votes(2, 3), row, tolls))
-        last_answer(votes(2, 3), row, tolls)
-        self.assertEqual([row, tolls], [[1, 1, 0], [1, 1, 1]])
+        row, tolls = [1, 1, 0, 0, 0], [10, 10, 1, 2, 1]
+        list(answers_from(ring(5), row, tolls))
+        last_answer(ring(5), row, tolls)
+        self.assertEqual([row, tolls], [[1, 1, 0, 0, 0], [10, 10, 1, 2, 1]])
 
 
 class ErrorsTest(Case):
     """The errors, which come when the iteration begins."""
 
     def test_nothing_before_the_iteration(self):
-        waiting = answers_from(ring(3), None, None)
-        steps = iter(waiting)
-        self.assert_error(BadRow(-1), next, steps)
-        self.assert_error(BadRow(-1), list, waiting)
-        steps = iter(answers_from(ring(8), Row.of_set([0, 1], 8), [1] * 8))
-        self.assert_error(TooMany(7), next, steps)
+        for call in (next, list, lambda found: next(iter(found))):
+            self.assert_error(BadRow(-1), call, answers_from(ring(3), None, None))
+            self.assert_error(OtherSize(2), call, answers_from(ring(3), [1, 1], [0]))
+            self.assert_error(TooMany(7), call, answers_from(ring(8), Row.of_set([0, 1], 8), [1] * 8))
+        # behind its error the generator is at its end
+        found = answers_from(ring(3), None, None)
+        self.assert_error(BadRow(-1), next, found)
+        self.assertEqual(list(found), [])
 
     def test_errors(self):
         family = ring(3)
-        for call in (lambda *some: next(iter(answers_from(*some))), last_answer):
+        for call in (lambda *some: next(answers_from(*some)), last_answer):
             self.assert_row_errors(3, lambda row, call=call: call(family, row, None))
             self.assert_positive_row_errors(3, lambda tolls, call=call: call(family, [5, 5, 5], tolls))
             for row in ([5, 5, 5], [0, 0, 0], [1, 1, 1], Row([2, 2, 2], 3), [1, 0, 0]):

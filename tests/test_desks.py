@@ -254,6 +254,33 @@ class DeedsTest(Case):
         desk.back()
         self.assertEqual(facts(desk), (votes(2, 3), Row([1, 1, 1]), ()))
 
+    def test_iterated_over(self):
+        desk = Desk(votes(2, 3), tolls=[1, 2, 3])
+        self.assertEqual([list(desk), tuple(desk), sorted(desk)], [[], (), []])
+        desk.hold(0)
+        desk.set_toll(1, 7)
+        texts = ["hold 0", "toll 1 7"]
+        # over and over again, and two at a time
+        self.assertEqual([list(desk), list(desk), [text for text in desk]], [texts, texts, texts])
+        self.assertEqual(list(zip(desk, desk)), [("hold 0", "hold 0"), ("toll 1 7", "toll 1 7")])
+        self.assertEqual(list(enumerate(desk)), [(0, "hold 0"), (1, "toll 1 7")])
+        self.assertEqual(["hold 0" in desk, "hold 1" in desk, " / ".join(desk)], [True, False, "hold 0 / toll 1 7"])
+        first, second = desk
+        self.assertEqual([first, second], texts)
+        self.assertEqual([list(desk.family_now), list(desk.tolls_now)], [[(1,), (2,)], [(1, 1), (7, 1), (3, 1)]])
+        desk.back()
+        self.assertEqual([list(desk), len(desk)], [["hold 0"], 1])
+        self.assertEqual([list(desk.family_now), list(desk.tolls_now)], [[(1,), (2,)], [(1, 1), (2, 1), (3, 1)]])
+        desk.back()
+        self.assertEqual([list(desk), len(desk)], [[], 0])
+        lots = [(0, 1), (0, 2), (1, 2)]
+        self.assertEqual([list(desk.family_now), list(desk.tolls_now)], [lots, [(1, 1), (2, 1), (3, 1)]])
+        desk.turn()
+        self.assertEqual([list(desk), list(desk.family_now)], [["turn"], lots])
+        with self.assertRaises(BadThing):
+            desk.hold(3)
+        self.assertEqual(list(desk), ["turn"])
+
     def test_two_hundred_deeds(self):
         rng = random.Random(3404)
         desk = Desk(useless_beside(votes(4, 7), range(2, 9), 12))

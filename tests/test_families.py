@@ -79,6 +79,12 @@ class MakingTest(Case):
         family = Family(4, [(0, 1), (2,)])
         self.assertEqual(len(family), 2)
         self.assertEqual(list(family), [(0, 1), (2,)])
+        # over and over again, and two at a time
+        self.assertEqual([list(family), tuple(family), [*family]], [[(0, 1), (2,)], ((0, 1), (2,)), list(family)])
+        self.assertEqual(list(zip(family, family)), [((0, 1), (0, 1)), ((2,), (2,))])
+        self.assertEqual([list(~family), list(family)], [[(0, 2), (1, 2)], [(0, 1), (2,)]])
+        steps = iter(family)
+        self.assertEqual([next(steps), next(steps), next(steps, None)], [(0, 1), (2,), None])
         self.assertIs((0, 1) in family, True)
         for other in [[0, 1], (1, 0), (0,), (), None, 2, (0, 1, 2), "01", ([0], 1)]:
             self.assertIs(other in family, False)

@@ -89,8 +89,7 @@ FUNCTIONS = {
     "trials": ["tried(desk, deeds)"],
     "listings": ["listing(desk)"],
 }
-# answers_from copies the lists that it is handed at the call, so it is not a generator by itself
-GENERATORS = {"quiet_sets", "parts_of"}
+GENERATORS = {"quiet_sets", "parts_of", "answers_from"}
 CLASSES = {
     ("rows", "Row"): {
         "plain": ["__init__(self, tops, bottom=1)", "at(self, things)", "total(self)", "dot(self, other)",

@@ -49,6 +49,11 @@ def functions_of(tree):
     return [node for node in ast.walk(tree) if isinstance(node, ast.FunctionDef)]
 
 
+def is_generator(function):
+    """Tell whether a function yields."""
+    return any(isinstance(node, (ast.Yield, ast.YieldFrom)) for node in ast.walk(function))
+
+
 def names_bound(function):
     """Return the parameters and local variables of a function."""
     spec = function.args
@@ -275,8 +280,7 @@ class LanguageTest(unittest.TestCase):
                         self.assertNotIn(node.func.value.id, params, where)
                 if isinstance(node, ast.Call) and isinstance(node.func, ast.Name):
                     self.assertNotIn(node.func.id, params - {"cls"}, where)
-                if function.name != "__iter__":
-                    self.assertNotIsInstance(node, (ast.Yield, ast.YieldFrom), where)
+                self.assertNotIsInstance(node, (ast.Yield, ast.YieldFrom), where)
 
     def test_operators_change_only_what_they_created(self):
         for function in pure_functions():
@@ -321,30 +325,63 @@ class LanguageTest(unittest.TestCase):
             for node in [n for n in ast.walk(tree) if isinstance(n, ast.With)]:
                 self.assertTrue(all(isinstance(item.context_expr, ast.Call) for item in node.items))
 
+    def test_generators(self):
+        others = [f for tree in TREES.values() for f in functions_of(tree) if not is_generator(f)]
+        free = {f for tree in TREES.values() for f in tree.body if isinstance(f, ast.FunctionDef)}
+        bound = {name for f in others for name in names_bound(f)}
+        for generator in [f for tree in TREES.values() for f in functions_of(tree) if is_generator(f)]:
+            # functions of a file, so neither methods with two underscores nor properties
+            self.assertIn(generator, free, generator.name)
+            self.assertNotIn(generator.name, METHODS | bound | {f.name for f in others})
+            rows = {row.value for row in ast.walk(generator) if isinstance(row, ast.Expr)}
+            for node in ast.walk(generator):
+                self.assertNotIsInstance(node, (ast.Try, ast.With), generator.name)
+                if isinstance(node, (ast.Yield, ast.YieldFrom)):
+                    self.assertIn(node, rows, generator.name)
+                if isinstance(node, ast.Return):
+                    self.assertIsNone(node.value, generator.name)
+
     def test_generators_are_iterated_at_once(self):
-        made = {f.name for tree in TREES.values() for f in functions_of(tree) if f.name != "__iter__"
-                and any(isinstance(n, (ast.Yield, ast.YieldFrom)) for n in ast.walk(f))}
+        made = {f.name for tree in TREES.values() for f in functions_of(tree) if is_generator(f)}
         for name, tree in TREES.items():
-            at_once = set()
+            at_once, calls = set(), set()
             for node in ast.walk(tree):
                 if isinstance(node, (ast.For, ast.comprehension)):
                     at_once.add(node.iter)
                 if isinstance(node, ast.YieldFrom):
                     at_once.add(node.value)
+                if isinstance(node, ast.Call) and getattr(node.func, "id", None) in ("list", "tuple"):
+                    at_once.update(node.args)
             for node in ast.walk(tree):
                 if isinstance(node, ast.Call) and getattr(node.func, "id", None) in made:
                     self.assertIn(node, at_once, (name, node.lineno))
                     self.assertTrue(all(isinstance(one, ast.Name) for one in node.args), (name, node.lineno))
+                    calls.add(node.func)
+            for node in ast.walk(tree):
+                if isinstance(node, ast.Name) and node.id in made:
+                    self.assertIn(node, calls, (name, node.lineno))
 
     def test_iteration_methods(self):
+        stored = {n.attr for tree in TREES.values() for n in ast.walk(tree)
+                  if isinstance(n, ast.Attribute) and isinstance(n.ctx, ast.Store)}
+        accessors = {f.name for tree in TREES.values() for f in functions_of(tree) if f.decorator_list}
+        found = 0
         for name, tree in TREES.items():
+            fine = set()
             for function in [f for f in functions_of(tree) if f.name == "__iter__"]:
                 rows = [row for row in function.body if not isinstance(getattr(row, "value", 0), ast.Constant)]
                 self.assertEqual(len(rows), 1, name)
-                self.assertIsInstance(rows[0].value, ast.YieldFrom, name)
-                self.assertRegex(ast.unparse(rows[0].value.value), r"^self(\.[a-z_]+){1,2}$", name)
-            # beside an __iter__ that yields, iter takes nothing but a list
-            self.assertFalse([n for n in ast.walk(tree) if isinstance(n, ast.Name) and n.id == "iter"], name)
+                self.assertIsInstance(rows[0], ast.Return, name)
+                match = re.fullmatch(r"iter\(self\.([a-z_]+)(?:\.([a-z_]+))?\)", ast.unparse(rows[0].value))
+                self.assertIsNotNone(match, name)
+                for attribute in [word for word in match.groups() if word]:
+                    self.assertIn(attribute, stored - accessors, name)
+                fine.add(rows[0].value.func)
+                found += 1
+            for node in ast.walk(tree):
+                if isinstance(node, ast.Name) and node.id == "iter":
+                    self.assertIn(node, fine, (name, node.lineno))
+        self.assertEqual(found, 3)
 
 
 if __name__ == "__main__":

@@ -132,6 +132,12 @@ class OperatorsTest(Case):
         row = Row([2, 0, 3], 4)
         self.assertEqual([row[0], row[1], row[2]], [(1, 2), (0, 1), (3, 4)])
         self.assertEqual(list(row), [(1, 2), (0, 1), (3, 4)])
+        # over and over again, and two at a time
+        self.assertEqual([list(row), tuple(row), [*row]], [[(1, 2), (0, 1), (3, 4)], ((1, 2), (0, 1), (3, 4)), list(row)])
+        self.assertEqual(list(zip(row, row)), [((1, 2), (1, 2)), ((0, 1), (0, 1)), ((3, 4), (3, 4))])
+        self.assertEqual([(0, 1) in row, (2, 4) in row, 0 in row], [True, False, False])
+        steps = iter(row)
+        self.assertEqual([next(steps), next(steps), next(steps), next(steps, None)], [*row, None])
         for wrong in [-1, 3, True, False, None, "0", 1.0, (0,), 10 ** 40, slice(0, 1)]:
             with self.assertRaises(IndexError):
                 row[wrong]
